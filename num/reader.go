@@ -91,10 +91,10 @@ func (r *Reader) Err() api.Errno {
 	return r.err
 }
 
-// End is the first error; that bytes are left is one.
+// End is the first error; that bytes are left is one, which stays like any other.
 func (r *Reader) End() api.Errno {
 	if r.Left() > 0 {
-		return api.ErrForm
+		r.Fail(api.ErrForm)
 	}
 	return r.Err()
 }

@@ -14,15 +14,24 @@ import (
 // tail is what lies behind the thing that is read.
 const tail = "\x04tail"
 
-// checkLeft looks at a reader without an error that has so many bytes left.
+// checkLeft looks at a reader without an error that has so many bytes left; End is asked of one that has none alone, so that others can be read further.
 func checkLeft(t *testing.T, what string, r *num.Reader, left int) {
 	t.Helper()
-	end := api.OK
-	if left > 0 {
-		end = api.ErrForm
+	if r.Left() != left || r.Err() != api.OK {
+		t.Errorf("%s: %d left, %v; not %d", what, r.Left(), r.Err(), left)
 	}
-	if r.Left() != left || r.Err() != api.OK || r.End() != end {
-		t.Errorf("%s: %d left, %v, %v; not %d", what, r.Left(), r.Err(), r.End(), left)
+	if left == 0 {
+		checkEnd(t, what, r)
+	}
+}
+
+// checkEnd looks at a reader that has read all well: End, however often it is asked, changes nothing.
+func checkEnd(t *testing.T, what string, r *num.Reader) {
+	t.Helper()
+	for range 2 {
+		if e := r.End(); e != api.OK || r.Err() != api.OK || r.Left() != 0 {
+			t.Errorf("%s: End is %v, Err %v, %d left", what, e, r.Err(), r.Left())
+		}
 	}
 }
 
@@ -305,20 +314,69 @@ func TestFailOK(t *testing.T) {
 	checkLeft(t, "the end", r, 0)
 }
 
-// P1.3: End changes nothing: what is left can be read still.
+// P1.3: End where nothing is left.
 func TestEnd(t *testing.T) {
 	checkLeft(t, "no bytes", num.Read(nil), 0)
 	checkLeft(t, "no bytes", num.Read([]byte{}), 0)
 	r := num.Read([]byte{7, 9})
 	checkLeft(t, "two numbers", r, 2)
-	if n := r.Uint(); n != 7 {
-		t.Errorf("%d, not 7", n)
-	}
-	checkLeft(t, "one number", r, 1)
-	if n := r.Uint(); n != 9 {
-		t.Errorf("%d, not 9", n)
+	if n, m := r.Uint(), r.Uint(); n != 7 || m != 9 {
+		t.Errorf("%d, %d; not 7, 9", n, m)
 	}
 	checkLeft(t, "none", r, 0)
+	// An end that was well is no error: what is read behind it has its own.
+	if n := r.Uint(); n != 0 {
+		t.Errorf("%d is read behind the end", n)
+	}
+	checkDead(t, "behind the end", r, api.ErrShort)
+}
+
+// P1.3: that bytes are left is an error like any other, once End has told it, whatever the bytes are.
+func TestEndWithBytesLeft(t *testing.T) {
+	for _, b := range []string{"\x00", "\x05\x06", "\x80\x80\x01", "\x80\x05", "\xc0\x40", "\xff", tail} {
+		what := fmt.Sprintf("%x left", b)
+		r := num.Read([]byte(b))
+		if e := r.End(); e != api.ErrForm {
+			t.Errorf("%s: End is %v", what, e)
+		}
+		checkDead(t, what, r, api.ErrForm)
+
+		r = num.Read(append([]byte{7}, b...))
+		if n, e := r.Uint(), r.End(); n != 7 || e != api.ErrForm {
+			t.Errorf("%s: %d is read, End is %v", what, n, e)
+		}
+		checkDead(t, what, r, api.ErrForm)
+	}
+}
+
+// P1.3: what is asked first behind the error that End told, each call on its own.
+func TestFirstCallBehindEnd(t *testing.T) {
+	for name, zero := range map[string]func(*num.Reader) bool{
+		"Uint":  func(r *num.Reader) bool { return r.Uint() == 0 },
+		"Int":   func(r *num.Reader) bool { return r.Int() == 0 },
+		"Text":  func(r *num.Reader) bool { return r.Text() == "" },
+		"Count": func(r *num.Reader) bool { return r.Count(1) == 0 },
+		"Left":  func(r *num.Reader) bool { return r.Left() == 0 },
+		"Err":   func(r *num.Reader) bool { return r.Err() == api.ErrForm },
+		"End":   func(r *num.Reader) bool { return r.End() == api.ErrForm },
+		"Fail":  func(r *num.Reader) bool { r.Fail(api.ErrSum); return r.Err() == api.ErrForm },
+	} {
+		r := num.Read([]byte{2, 'a', 'b'})
+		r.End()
+		if !zero(r) {
+			t.Errorf("%s is wrong behind the error of End", name)
+		}
+	}
+}
+
+// P1.3: End tells the first error, not that bytes were left behind it.
+func TestEndKeepsFirstError(t *testing.T) {
+	r := num.Read([]byte(tail))
+	r.Fail(api.ErrSum)
+	if e := r.End(); e != api.ErrSum {
+		t.Errorf("End is %v", e)
+	}
+	checkDead(t, "Fail ahead of End", r, api.ErrSum)
 }
 
 // P1.3: each call on nil.
